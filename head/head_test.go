@@ -342,13 +342,9 @@ func TestNumsRefuses(t *testing.T) {
 
 // P4.2: every count that two bytes hold, over numbers of which as many as may be stand there.
 func TestNumsCounts(t *testing.T) {
-	for k := 0; k <= 96; k++ {
-		nums := steps(k, 98, 1)
-		h := plainForm(nums, blocks(k))
+	for _, k := range []int{0, 1, 2, 50, 95, 96} {
+		h := plainForm(steps(k, 98, 1), blocks(k))
 		for count := range 1 << 16 {
-			if count > 400 && count%257 != 0 && count&255 > 96 {
-				continue
-			}
 			binary.LittleEndian.PutUint16(h[8:], uint16(count))
 			want, e := plainNums(h, 16384)
 			wantNums(t, "P4.2: a count", h, 16384, want, e)
