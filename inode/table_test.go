@@ -57,8 +57,8 @@ func TestNoInode(t *testing.T) {
 			}
 		}
 		w.still("P11.7", hold)
-		w.stuff(20)
-		w.still("P11.7", hold)
+		w.stuff(min(96, length-w.g.Data))
+		w.still("P11.7: ahead of ErrTooBig, where the disk has as many blocks", hold)
 		w.d.Crash(nil)
 		w.still("P11.7: ahead of ErrDown", hold)
 		w.x.Abort()
@@ -287,6 +287,31 @@ func TestTakeReadsUpToTheFree(t *testing.T) {
 			} else {
 				w.still("P11.7", func() { w.noTake("P11.5: a block isn't put", aLink, api.ErrDown) })
 			}
+		}
+	}
+}
+
+// P11.5: of a record that is none and a block that can't be read the first that is met; both ahead of a full table.
+func TestTakeOfTwoErrors(t *testing.T) {
+	for missing := range 4 {
+		for none := 1; none < 32; none++ {
+			if none/8 == missing {
+				continue
+			}
+			w := on(t, 300, filled(1, 31))
+			w.lay(none, notRecord())
+			for i := range 4 {
+				if i != missing {
+					w.keep(99 + i)
+				}
+			}
+			w.still("P11.7", func() { w.noTake("P11.5: full, with a record that is none", aFile, api.ErrRecord) })
+			w.d.Crash(nil)
+			code := api.ErrDown
+			if none/8 < missing {
+				code = api.ErrRecord
+			}
+			w.still("P11.7", func() { w.noTake("P11.5", aFile, code) })
 		}
 	}
 }
