@@ -97,7 +97,7 @@ func single(s string) []op {
 	return l
 }
 
-// P18.2, P0.9, D9: every call with every path and every two, where there is room, where no block is free, where no inode is: the first error is the same in all three.
+// P18.2, P0.9, D9: the first error is the same in all three. Calls with one path: with each, where there is room, where no block is free, where no inode is, where neither is. Link and Rename: with every two, where there is room and where neither is free, which is where the order of their errors shows.
 func TestCrossings(t *testing.T) {
 	for _, short := range []string{"nothing", "blocks", "inodes", "both"} {
 		x := crossing(t)
